@@ -1,0 +1,1 @@
+"""Nestsets: sets within sets, each one number."""
