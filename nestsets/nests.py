@@ -26,6 +26,12 @@ def mirrored(one):
 
 
 def nest(some):
+    return gathered(some)
+
+
+# A second name for what nest does: a file whose defs have a parameter called
+# nest can't draw in a def of that name.
+def gathered(some):
     members = {}
     for member in some:
         members[member] = True

@@ -1,5 +1,7 @@
 """What the tests hold the program against: sets as frozensets, and the words of the document."""
 
+import functools
+
 # The nests of 0 to 8, written out.
 FIRST = (
     (),
@@ -18,6 +20,7 @@ def set_of(nest):
     return frozenset([set_of(member) for member in nest])
 
 
+@functools.lru_cache(maxsize=None)
 def is_greater(one, other):
     """Point 0.4, word for word, over frozensets."""
     if one == other:
@@ -27,6 +30,26 @@ def is_greater(one, other):
         if all(is_greater(candidate, another) for another in rest):
             return candidate in one
     raise AssertionError("no greatest one")
+
+
+def compared(one, other):
+    return is_greater(one, other) - is_greater(other, one)
+
+
+@functools.lru_cache(maxsize=None)
+def nest_from(some):
+    """The nest of a frozenset of frozensets."""
+    return tuple([nest_from(member) for member in sorted(some, key=functools.cmp_to_key(compared))])
+
+
+def nest_with(some):
+    """The nest with just these members."""
+    return nest_from(frozenset([set_of(member) for member in some]))
+
+
+def counted(number):
+    """The counting nest of a number."""
+    return tuple([counted(less) for less in range(number)])
 
 
 def numbered(number):

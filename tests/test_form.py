@@ -40,6 +40,15 @@ def docstring(tree):
     return tree.body[0] if tree.body and ast.get_docstring(tree) is not None else None
 
 
+def top_names(tree):
+    names = [node.name for node in tree.body if isinstance(node, (ast.FunctionDef, ast.ClassDef))]
+    return names + [target.id for node in tree.body if isinstance(node, ast.Assign) for target in node.targets]
+
+
+def drawn_from(tree):
+    return {node.module.split(".")[1] for node in ast.walk(tree) if isinstance(node, ast.ImportFrom)}
+
+
 class Form(unittest.TestCase):
     def test_files_and_signs(self):
         self.assertIn("__init__.py", [path.name for path in FILES])
@@ -68,6 +77,41 @@ class Form(unittest.TestCase):
             for drawn in node.names:
                 self.assertNotEqual(drawn.name, "*", name)
                 self.assertIsNone(drawn.asname, name)
+
+    def test_names_are_drawn_from_the_file_that_defines_them(self):
+        defined = {name[:-3]: top_names(tree) for name, tree in trees()}
+        for name, node in nodes(ast.ImportFrom):
+            for drawn in node.names:
+                self.assertIn(drawn.name, defined[node.module.split(".")[1]], name)
+
+    def test_no_two_files_draw_from_one_another(self):
+        left = {name[:-3]: drawn_from(tree) for name, tree in trees()}
+        while left:
+            free = [name for name, needed in left.items() if not needed & set(left)]
+            self.assertNotEqual(free, [], left)
+            for name in free:
+                left.pop(name)
+
+    def test_each_name_is_bound_once_at_the_top(self):
+        for name, tree in trees():
+            bound = top_names(tree)
+            bound += [drawn.name for node in tree.body if isinstance(node, ast.ImportFrom) for drawn in node.names]
+            self.assertEqual(len(bound), len(set(bound)), name)
+
+    def test_the_top_holds_docstring_imports_defs_and_names_alone(self):
+        for name, tree in trees():
+            self.assertIsNotNone(docstring(tree), name)
+            for node in tree.body[1:]:
+                self.assertIsInstance(node, (ast.ImportFrom, ast.FunctionDef, ast.ClassDef, ast.Assign), name)
+
+    def test_comprehensions_have_one_walk_and_at_most_one_condition(self):
+        for name, node in nodes(ast.ListComp):
+            self.assertEqual(len(node.generators), 1, (name, node.lineno))
+            self.assertLessEqual(len(node.generators[0].ifs), 1, (name, node.lineno))
+
+    def test_loops_have_no_else(self):
+        for name, node in nodes((ast.For, ast.While)):
+            self.assertEqual(node.orelse, [], (name, node.lineno))
 
     def test_names(self):
         for name, node in nodes(ast.Name):
